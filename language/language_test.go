@@ -27,7 +27,10 @@ var library = []string{
 	"sync", "sync/atomic", "unicode", "unicode/utf8",
 }
 
-const mostLines = 60 // of a function
+const (
+	mostLines    = 60  // of a function
+	mostLiterals = 250 // of a table at package level
+)
 
 // own: is it a package of the program?
 func own(path string) bool {
@@ -74,12 +77,66 @@ func declared(set *token.FileSet, d ast.Decl) []string {
 		}
 	case *ast.GenDecl:
 		for _, s := range x.Specs {
-			if v, ok := s.(*ast.ValueSpec); ok && x.Tok == token.VAR && len(v.Values) != len(v.Names) {
+			v, ok := s.(*ast.ValueSpec)
+			if !ok || x.Tok != token.VAR {
+				continue
+			}
+			if len(v.Values) != len(v.Names) {
 				l = append(l, "variable without a value of its own "+v.Names[0].Name)
+			}
+			for _, e := range v.Values {
+				l = append(l, started(v.Names[0].Name, e)...)
 			}
 		}
 	}
 	return l
+}
+
+// started is what is wrong with a value with which a variable at package level starts.
+func started(name string, v ast.Expr) []string {
+	var l []string
+	if b, ok := v.(*ast.BasicLit); ok && b.Kind == token.STRING {
+		l = append(l, "text that is no constant "+name)
+	}
+	if c, ok := v.(*ast.CallExpr); ok && newError(c) {
+		return nil
+	}
+	literals := 0
+	ast.Inspect(v, func(n ast.Node) bool {
+		switch x := n.(type) {
+		case *ast.CallExpr:
+			l = append(l, "call in "+name)
+		case *ast.FuncType:
+			l = append(l, "function in "+name)
+		case *ast.MapType:
+			l = append(l, "map in "+name)
+		case *ast.UnaryExpr:
+			if x.Op == token.AND {
+				l = append(l, "pointer in "+name)
+			}
+		case *ast.BasicLit:
+			literals++
+			if x.Kind == token.FLOAT || x.Kind == token.IMAG {
+				l = append(l, "float in "+name)
+			}
+		}
+		return true
+	})
+	if literals > mostLiterals {
+		l = append(l, "great table "+name)
+	}
+	return l
+}
+
+// newError: is it errors.New of one text?
+func newError(c *ast.CallExpr) bool {
+	f, ok := c.Fun.(*ast.SelectorExpr)
+	if !ok || len(c.Args) != 1 {
+		return false
+	}
+	p, ok := f.X.(*ast.Ident)
+	b, text := c.Args[0].(*ast.BasicLit)
+	return ok && p.Name == "errors" && f.Sel.Name == "New" && text && b.Kind == token.STRING
 }
 
 func TestLayers(t *testing.T) {
@@ -123,6 +180,17 @@ func TestFaults(t *testing.T) {
 		{"//go:build linux\n\npackage x\n", "//go:build linux"},
 		{"package x\n\nvar n int\n", "variable without a value of its own n"},
 		{"package x\n\nvar n = 1\n", ""},
+		{"package x\n\nvar s = \"a\"\n", "text that is no constant s"},
+		{"package x\n\nvar l = [...]string{1: \"a\", 2: \"b\"}\n", ""},
+		{"package x\n\nvar l = []int{" + strings.Repeat("1, ", mostLiterals-1) + "1}\n", ""},
+		{"package x\n\nvar l = []int{" + strings.Repeat("1, ", mostLiterals) + "1}\n", "great table l"},
+		{"package x\n\nvar e = errors.New(\"a\")\n", ""},
+		{"package x\n\nvar e = errors.New(\"a\" + f())\n", "call in e, call in e"},
+		{"package x\n\nvar n = f(1)\n", "call in n"},
+		{"package x\n\nvar f = func() {}\n", "function in f"},
+		{"package x\n\nvar m = map[int]int{}\n", "map in m"},
+		{"package x\n\nvar p = &n\n", "pointer in p"},
+		{"package x\n\nvar l = []float64{1.5}\n", "float in l"},
 		{"package x\nfunc f( ) {}\n", "layout"},
 		{long, ""},
 		{strings.Replace(long, "\tf()\n", "\tf()\n\tf()\n", 1), "long function f"},
