@@ -10,33 +10,17 @@ import (
 	"lacuna/api"
 	"lacuna/cell"
 	"lacuna/prim"
+	"lacuna/sample"
 	"lacuna/value"
 )
 
-// mixed are n bytes that show no order; others for another seed.
-func mixed(n int, seed uint32) []byte {
-	b := make([]byte, n)
-	for k := range b {
-		seed = seed*1664525 + 1013904223
-		b[k] = byte(seed >> 24)
-	}
-	return b
-}
-
-func join(parts ...[]byte) []byte { return bytes.Join(parts, nil) }
-
 // equal: is it one cell, field by field, and bit by bit?
-func equal(c, d cell.Cell) bool {
-	bits := math.Float64bits
-	v, w := c.Value, d.Value
-	return c.Kind == d.Kind && v.Type == w.Type && v.Int == w.Int && v.Text == w.Text &&
-		bits(real(v.Num)) == bits(real(w.Num)) && bits(imag(v.Num)) == bits(imag(w.Num))
-}
+func equal(c, d cell.Cell) bool { return c.Kind == d.Kind && sample.Equal(c.Value, d.Value) }
 
 func text(n int) value.Value { return value.Value{Type: value.Text, Text: strings.Repeat("x", n)} }
 
 func raw(n int) value.Value {
-	return value.Value{Type: value.Bytes, Text: string(mixed(n, uint32(n)))}
+	return value.Value{Type: value.Bytes, Text: string(sample.Mixed(n, uint32(n)))}
 }
 
 var (
@@ -275,9 +259,9 @@ func TestP72Put(t *testing.T) {
 		{"no byte", cell.Of(raw(0)), value.Bytes, []byte{1, 0}, []byte{2}},
 		{"one byte", cell.Of(text(1)), value.Text, []byte{1, 1, 'x'}, []byte{3, 'x'}},
 		{"the byte 0", cell.Of(value.Value{Type: value.Bytes, Text: "\x00"}), value.Bytes, []byte{1, 1, 0}, []byte{3, 0}},
-		{"63 bytes", cell.Of(text(63)), value.Text, join([]byte{1, 63}, bytes.Repeat([]byte("x"), 63)), join([]byte{65}, bytes.Repeat([]byte("x"), 63))},
-		{"64 bytes", cell.Of(text(64)), value.Text, join([]byte{1, 64}, bytes.Repeat([]byte("x"), 64)), join([]byte{66}, bytes.Repeat([]byte("x"), 64))},
-		{"any 64 bytes", cell.Of(raw(64)), value.Bytes, join([]byte{1, 64}, mixed(64, 64)), join([]byte{66}, mixed(64, 64))},
+		{"63 bytes", cell.Of(text(63)), value.Text, sample.Join([]byte{1, 63}, bytes.Repeat([]byte("x"), 63)), sample.Join([]byte{65}, bytes.Repeat([]byte("x"), 63))},
+		{"64 bytes", cell.Of(text(64)), value.Text, sample.Join([]byte{1, 64}, bytes.Repeat([]byte("x"), 64)), sample.Join([]byte{66}, bytes.Repeat([]byte("x"), 64))},
+		{"any 64 bytes", cell.Of(raw(64)), value.Bytes, sample.Join([]byte{1, 64}, sample.Mixed(64, 64)), sample.Join([]byte{66}, sample.Mixed(64, 64))},
 		{"65 bytes", cell.Of(text(65)), value.Text, []byte{2, 65}, []byte{1, 65}},
 		{"any 65 bytes", cell.Of(raw(65)), value.Bytes, []byte{2, 65}, []byte{1, 65}},
 		{"127 bytes", cell.Of(text(127)), value.Text, []byte{2, 127}, []byte{1, 127}},
@@ -286,8 +270,8 @@ func TestP72Put(t *testing.T) {
 		{"2048 bytes", cell.Of(raw(2048)), value.Bytes, []byte{2, 128, 16}, []byte{1, 128, 16}},
 	} {
 		for version, want := range map[uint8][]byte{1: x.one, 2: x.two} {
-			for _, ahead := range [][]byte{nil, {}, {7}, mixed(100, 1)} {
-				if b, e := cell.Put(ahead, x.c, x.kind, version); e != api.OK || !bytes.Equal(b, join(ahead, want)) {
+			for _, ahead := range [][]byte{nil, {}, {7}, sample.Mixed(100, 1)} {
+				if b, e := cell.Put(ahead, x.c, x.kind, version); e != api.OK || !bytes.Equal(b, sample.Join(ahead, want)) {
 					t.Errorf("%s in version %d behind %d bytes: %v, error %d", x.name, version, len(ahead), b, e)
 				}
 			}
@@ -317,17 +301,17 @@ func putByWords(b []byte, c cell.Cell, kind, version uint8) ([]byte, api.Errno) 
 	}
 	switch {
 	case c.Kind == 1:
-		return join(b, []byte{0}), api.OK
+		return sample.Join(b, []byte{0}), api.OK
 	case version == 1 && large:
-		return join(b, []byte{2}, number(n)), api.OK
+		return sample.Join(b, []byte{2}, number(n)), api.OK
 	case version == 1:
-		return join(b, []byte{1}, own), api.OK
+		return sample.Join(b, []byte{1}, own), api.OK
 	case large:
-		return join(b, []byte{1}, number(n)), api.OK
+		return sample.Join(b, []byte{1}, number(n)), api.OK
 	case kind == 5 || kind == 6:
-		return join(b, number(n+2), []byte(v.Text)), api.OK
+		return sample.Join(b, number(n+2), []byte(v.Text)), api.OK
 	}
-	return join(b, own), api.OK
+	return sample.Join(b, own), api.OK
 }
 
 func TestP72PutByItsWords(t *testing.T) {
@@ -401,15 +385,15 @@ func TestP72Take(t *testing.T) {
 		{"ab in version 2", []byte{4, 97, 98}, value.Text, 2, cell.Of(value.Value{Type: value.Text, Text: "ab"}), 0},
 		{"any bytes", []byte{1, 2, 0, 255}, value.Bytes, 1, cell.Of(value.Value{Type: value.Bytes, Text: "\x00\xff"}), 0},
 		{"any bytes in version 2", []byte{4, 0, 255}, value.Bytes, 2, cell.Of(value.Value{Type: value.Bytes, Text: "\x00\xff"}), 0},
-		{"64 bytes", join([]byte{1, 64}, mixed(64, 64)), value.Bytes, 1, cell.Of(raw(64)), 0},
-		{"64 bytes in version 2", join([]byte{66}, mixed(64, 64)), value.Bytes, 2, cell.Of(raw(64)), 0},
+		{"64 bytes", sample.Join([]byte{1, 64}, sample.Mixed(64, 64)), value.Bytes, 1, cell.Of(raw(64)), 0},
+		{"64 bytes in version 2", sample.Join([]byte{66}, sample.Mixed(64, 64)), value.Bytes, 2, cell.Of(raw(64)), 0},
 		{"65 bytes", []byte{2, 65}, value.Text, 1, cell.Of(text(0)), 65},
 		{"65 bytes in version 2", []byte{1, 65}, value.Bytes, 2, cell.Of(raw(0)), 65},
 		{"300 bytes", []byte{2, 172, 2}, value.Bytes, 1, cell.Of(raw(0)), 300},
 		{"2048 bytes", []byte{2, 128, 16}, value.Text, 1, cell.Of(text(0)), 2048},
 		{"2048 bytes in version 2", []byte{1, 128, 16}, value.Text, 2, cell.Of(text(0)), 2048},
 	} {
-		r := prim.Read(join(x.b, []byte{9, 9}))
+		r := prim.Read(sample.Join(x.b, []byte{9, 9}))
 		if c, n := cell.Take(r, x.kind, x.version); !equal(c, x.c) || n != x.n || r.Err() != api.OK || r.Left() != 2 {
 			t.Errorf("%s: %v, %d, error %d, %d bytes left", x.name, c, n, r.Err(), r.Left())
 		}
@@ -640,7 +624,7 @@ func TestP73FromNoOtherBytes(t *testing.T) {
 				}
 			}
 			for seed := range uint32(300) {
-				b := mixed(1+int(seed)%90, seed)
+				b := sample.Mixed(1+int(seed)%90, seed)
 				taken(t, b, kind, version)
 				b[0] %= 4
 				taken(t, b, kind, version)

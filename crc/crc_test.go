@@ -7,6 +7,7 @@ import (
 	"testing"
 
 	"lacuna/crc"
+	"lacuna/sample"
 )
 
 // sums are bytes whose sums are known.
@@ -41,18 +42,6 @@ func falling(n int) []byte {
 	return b
 }
 
-// mixed are n bytes that show no order; others for another seed.
-func mixed(n int, seed uint32) []byte {
-	b := make([]byte, n)
-	for k := range b {
-		seed = seed*1664525 + 1013904223
-		b[k] = byte(seed >> 24)
-	}
-	return b
-}
-
-func join(parts ...[]byte) []byte { return bytes.Join(parts, nil) }
-
 // byWords is the sum as the chapter says it, bit by bit.
 func byWords(register uint32, b []byte) crc.Sum {
 	for _, x := range b {
@@ -83,7 +72,7 @@ func TestP31OfByItsWords(t *testing.T) {
 	}
 	for _, n := range []int{3, 4, 5, 7, 8, 9, 15, 16, 17, 63, 64, 65, 255, 256, 257, 4095, 4096, 4097, 4106, 70000} {
 		for seed := range uint32(4) {
-			if b := mixed(n, seed); crc.Of(b) != byWords(math.MaxUint32, b) {
+			if b := sample.Mixed(n, seed); crc.Of(b) != byWords(math.MaxUint32, b) {
 				t.Errorf("%d bytes, seed %d: %08X", n, seed, crc.Of(b))
 			}
 		}
@@ -99,7 +88,7 @@ func TestP31OfNothing(t *testing.T) {
 }
 
 func TestP31OfParts(t *testing.T) {
-	b := mixed(40, 1)
+	b := sample.Mixed(40, 1)
 	want := byWords(math.MaxUint32, b)
 	for i := range len(b) + 1 {
 		for j := i; j <= len(b); j++ {
@@ -121,7 +110,7 @@ func TestP31OfParts(t *testing.T) {
 	if s := crc.Of(singles...); s != want {
 		t.Errorf("byte by byte: %08X", s)
 	}
-	if s := crc.Of(b, b, b[5:30]); s != byWords(math.MaxUint32, join(b, b, b[5:30])) {
+	if s := crc.Of(b, b, b[5:30]); s != byWords(math.MaxUint32, sample.Join(b, b, b[5:30])) {
 		t.Errorf("parts that share bytes: %08X", s)
 	}
 	if crc.Of(b[:9], b[9:]) == crc.Of(b[9:], b[:9]) {
@@ -155,9 +144,9 @@ func TestP31And(t *testing.T) {
 		if s.And() != s || s.And(nil) != s || s.And(nil, []byte{}) != s {
 			t.Errorf("%08X and nothing: %08X, %08X", s, s.And(), s.And(nil))
 		}
-		for _, p := range [][]byte{{0}, {255}, []byte("123456789"), make([]byte, 300), mixed(4097, 3)} {
-			want := crc.Of(join(b, p, p[:1]))
-			if got := s.And(p, p[:1]); got != want || got != byWords(^uint32(s), join(p, p[:1])) {
+		for _, p := range [][]byte{{0}, {255}, []byte("123456789"), make([]byte, 300), sample.Mixed(4097, 3)} {
+			want := crc.Of(sample.Join(b, p, p[:1]))
+			if got := s.And(p, p[:1]); got != want || got != byWords(^uint32(s), sample.Join(p, p[:1])) {
 				t.Errorf("%08X and %d bytes: %08X, not %08X", s, len(p)+1, got, want)
 			}
 		}
@@ -187,7 +176,7 @@ func TestP32Put(t *testing.T) {
 		if b := x.s.Put([]byte{}); !bytes.Equal(b, x.b) {
 			t.Errorf("%08X behind an empty list: %v", x.s, b)
 		}
-		if b := x.s.Put([]byte{7, 8}); !bytes.Equal(b, join([]byte{7, 8}, x.b)) {
+		if b := x.s.Put([]byte{7, 8}); !bytes.Equal(b, sample.Join([]byte{7, 8}, x.b)) {
 			t.Errorf("%08X behind 7 8: %v", x.s, b)
 		}
 	}
@@ -195,7 +184,7 @@ func TestP32Put(t *testing.T) {
 
 func TestP32Sign(t *testing.T) {
 	for _, x := range sums {
-		want := join(x.b, []byte{byte(x.sum), byte(x.sum >> 8), byte(x.sum >> 16), byte(x.sum >> 24)})
+		want := sample.Join(x.b, []byte{byte(x.sum), byte(x.sum >> 8), byte(x.sum >> 16), byte(x.sum >> 24)})
 		b := crc.Sign(x.b)
 		if !bytes.Equal(b, want) {
 			t.Errorf("%v: %v, not %v", x.b, b, want)
@@ -205,7 +194,7 @@ func TestP32Sign(t *testing.T) {
 		}
 	}
 	for n := range 300 {
-		b := mixed(n, uint32(n))
+		b := sample.Mixed(n, uint32(n))
 		s := crc.Sign(b)
 		if !crc.Signed(s) || !bytes.Equal(s[:n], b) || len(s) != n+4 {
 			t.Errorf("%d bytes: what is signed is not", n)
@@ -225,7 +214,7 @@ func TestP32SignedOfFewerThanFour(t *testing.T) {
 			t.Fatalf("%v is signed, or its first byte", b)
 		}
 	}
-	for _, b := range [][]byte{{0, 0, 0}, {255, 255, 255}, {81, 83, 125}, mixed(3, 9)} {
+	for _, b := range [][]byte{{0, 0, 0}, {255, 255, 255}, {81, 83, 125}, sample.Mixed(3, 9)} {
 		if crc.Signed(b) {
 			t.Errorf("%v is signed", b)
 		}
@@ -243,7 +232,7 @@ func TestP32Signed(t *testing.T) {
 		{"no byte, and a register that is not turned at last", []byte{255, 255, 255, 255}, false},
 		{"0", []byte{0, 0x51, 0x53, 0x7D, 0x52}, true},
 		{"0, the highest byte of the sum first", []byte{0, 0x52, 0x7D, 0x53, 0x51}, false},
-		{"0 with the sum of 1", join([]byte{0}, crc.Of([]byte{1}).Put(nil)), false},
+		{"0 with the sum of 1", sample.Join([]byte{0}, crc.Of([]byte{1}).Put(nil)), false},
 		{"nine", []byte("123456789\x83\x92\x06\xE3"), true},
 		{"the sum ahead", []byte("\x83\x92\x06\xE3123456789"), false},
 		{"without the first byte", []byte("23456789\x83\x92\x06\xE3"), false},
@@ -302,7 +291,7 @@ func patterns(yield func(uint32) bool) {
 func TestP33Damage(t *testing.T) {
 	for _, n := range []int{0, 1, 2, 3, 4, 5, 11} {
 		for seed := range uint32(2) {
-			whole := crc.Sign(mixed(n, seed))
+			whole := crc.Sign(sample.Mixed(n, seed))
 			for pattern := range patterns {
 				for at := range 8 * len(whole) {
 					b := bytes.Clone(whole)
@@ -316,7 +305,7 @@ func TestP33Damage(t *testing.T) {
 }
 
 func TestP33DamageOfMany(t *testing.T) {
-	whole := crc.Sign(mixed(4106, 5))
+	whole := crc.Sign(sample.Mixed(4106, 5))
 	end := 8 * len(whole)
 	// From bits at the beginning and amidst; within the last payload bytes, over them and the sum, and in the sum alone.
 	for _, at := range []int{0, 1, 7, 8, 13, 20001, end - 80, end - 64, end - 63, end - 49, end - 33, end - 32, end - 17, end - 9, end - 1} {
@@ -363,7 +352,7 @@ func TestR4HandedIn(t *testing.T) {
 	crc.Of(parts...)
 	crc.Sum(5).And(parts...)
 	crc.Signed(room)
-	if !bytes.Equal(join(parts...), whole) || len(parts[0]) != 3 {
+	if !bytes.Equal(sample.Join(parts...), whole) || len(parts[0]) != 3 {
 		t.Error("Of, And, Signed: what was handed in is changed")
 	}
 }
@@ -378,7 +367,7 @@ func TestR3NilAndEmpty(t *testing.T) {
 }
 
 func TestR6SameAgain(t *testing.T) {
-	b := mixed(100, 8)
+	b := sample.Mixed(100, 8)
 	want := crc.Of(b)
 	crc.Of(falling(50)).And(b)
 	crc.Signed(crc.Sign(b))

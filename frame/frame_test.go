@@ -9,19 +9,8 @@ import (
 	"lacuna/api"
 	"lacuna/crc"
 	"lacuna/frame"
+	"lacuna/sample"
 )
-
-// mixed are n bytes that show no order; others for another seed.
-func mixed(n int, seed uint32) []byte {
-	b := make([]byte, n)
-	for k := range b {
-		seed = seed*1664525 + 1013904223
-		b[k] = byte(seed >> 24)
-	}
-	return b
-}
-
-func join(parts ...[]byte) []byte { return bytes.Join(parts, nil) }
 
 // equal: are they one frame?
 func equal(f, g frame.Frame) bool {
@@ -102,7 +91,7 @@ func TestP41Right(t *testing.T) {
 		{"kind ahead of length", 1, 0, 4097, api.ErrKind},
 		{"all of it", 0, 0, 4097, api.ErrVersion},
 	} {
-		f := frame.Frame{Version: x.version, Kind: x.kind, Payload: mixed(x.size, 1)}
+		f := frame.Frame{Version: x.version, Kind: x.kind, Payload: sample.Mixed(x.size, 1)}
 		if e := frame.Right(f); e != x.e {
 			t.Errorf("%s: %d, not %d", x.name, e, x.e)
 		}
@@ -124,7 +113,7 @@ func TestP41RightAndMake(t *testing.T) {
 	for _, version := range versions {
 		for _, kind := range kinds {
 			for _, size := range sizes {
-				f := frame.Frame{Version: version, Kind: kind, Payload: mixed(size, uint32(kind))}
+				f := frame.Frame{Version: version, Kind: kind, Payload: sample.Mixed(size, uint32(kind))}
 				want := wrong(version, kind, size)
 				if e := frame.Right(f); e != want {
 					t.Errorf("Right: version %d, kind %d, %d bytes: %d, not %d", version, kind, size, e, want)
@@ -154,7 +143,7 @@ var whole = []struct {
 	{frame.Frame{Version: 2, Kind: 1}, []byte{76, 103, 2, 1, 0, 0, 75, 104, 116, 21}},
 	{
 		frame.Frame{Version: 2, Kind: 4, Payload: bytes.Repeat([]byte{9}, 256)},
-		join([]byte{76, 103, 2, 4, 0, 1}, bytes.Repeat([]byte{9}, 256), []byte{252, 150, 11, 190}),
+		sample.Join([]byte{76, 103, 2, 4, 0, 1}, bytes.Repeat([]byte{9}, 256), []byte{252, 150, 11, 190}),
 	},
 }
 
@@ -165,7 +154,7 @@ func TestP41Make(t *testing.T) {
 		}
 	}
 	for _, size := range []int{0, 1, 255, 256, 4095, 4096} {
-		b := made(t, 1, frame.Piece, mixed(size, 2))
+		b := made(t, 1, frame.Piece, sample.Mixed(size, 2))
 		if len(b) != size+10 || !crc.Signed(b) || int(b[4])+256*int(b[5]) != size {
 			t.Errorf("%d bytes: %d in all, signed %v, length %d %d", size, len(b), crc.Signed(b), b[4], b[5])
 		}
@@ -310,12 +299,12 @@ func TestP42ParseByItsWords(t *testing.T) {
 		for _, version := range versions {
 			for _, kind := range kinds {
 				for _, length := range []int{0, 1, 255, 256, 4096, 4097, 65535} {
-					head := join([]byte(front), []byte{version, kind, byte(length), byte(length >> 8)})
+					head := sample.Join([]byte(front), []byte{version, kind, byte(length), byte(length >> 8)})
 					for n := range len(head) + 1 {
 						same(t, head[:n])
 					}
-					same(t, join(head, mixed(20, 3)))
-					same(t, crc.Sign(join(head, mixed(min(length, 5000), 4))))
+					same(t, sample.Join(head, sample.Mixed(20, 3)))
+					same(t, crc.Sign(sample.Join(head, sample.Mixed(min(length, 5000), 4))))
 				}
 			}
 		}
@@ -324,8 +313,8 @@ func TestP42ParseByItsWords(t *testing.T) {
 
 func TestP42BytesBehind(t *testing.T) {
 	for _, x := range whole {
-		for _, behind := range [][]byte{{0}, {255}, []byte("L"), []byte("Lg"), []byte("x"), mixed(5000, 6), x.b, []byte(good)} {
-			f, n, e := frame.Parse(join(x.b, behind))
+		for _, behind := range [][]byte{{0}, {255}, []byte("L"), []byte("Lg"), []byte("x"), sample.Mixed(5000, 6), x.b, []byte(good)} {
+			f, n, e := frame.Parse(sample.Join(x.b, behind))
 			if e != api.OK || n != len(x.b) || !equal(f, x.f) {
 				t.Errorf("%v with %d bytes behind: %v, %d, error %d", x.f, len(behind), f, n, e)
 			}
@@ -337,7 +326,7 @@ func TestP43MadeAndParsed(t *testing.T) {
 	for version := uint8(1); version <= 2; version++ {
 		for kind := uint8(frame.Begin); kind <= frame.Commit; kind++ {
 			for _, size := range []int{0, 1, 2, 9, 10, 127, 128, 255, 256, 257, 1000, 4095, 4096} {
-				want := frame.Frame{Version: version, Kind: kind, Payload: mixed(size, uint32(kind))}
+				want := frame.Frame{Version: version, Kind: kind, Payload: sample.Mixed(size, uint32(kind))}
 				b := made(t, version, kind, want.Payload)
 				f, n, e := frame.Parse(b)
 				if e != api.OK || n != len(b) || !equal(f, want) || frame.Right(f) != api.OK {
@@ -359,7 +348,7 @@ func TestP43MadeAndParsed(t *testing.T) {
 
 func TestP43Beginnings(t *testing.T) {
 	for _, size := range []int{0, 1, 255, 256, 4096} {
-		b := made(t, 2, frame.Update, mixed(size, 7))
+		b := made(t, 2, frame.Update, sample.Mixed(size, 7))
 		for k := range b {
 			if f, n, e := frame.Parse(b[:k]); e != api.ErrShort || n != 0 || !nothing(f) {
 				t.Fatalf("the first %d of %d bytes: %d, error %d", k, len(b), n, e)
@@ -385,7 +374,7 @@ func turn(b []byte, at int, pattern uint32) bool {
 func TestP43Damage(t *testing.T) {
 	patterns := []uint32{1, 3, 5, 0x11, 0xff, 0x101, 0x1ff, 0x10001, 0xdeadbeef, 0x80000001, 0xc0000003, 0x7fffffff, math.MaxUint32, 0x82f63b78 >> 3}
 	for _, size := range []int{0, 1, 3, 30, 4096} {
-		b := made(t, 1, frame.Delete, mixed(size, 8))
+		b := made(t, 1, frame.Delete, sample.Mixed(size, 8))
 		for at := 6 * 8; at < 8*len(b); at++ {
 			// Of a great frame the beginning, the end, and some amidst.
 			if at > 100 && at < 8*len(b)-100 && at%997 != 0 {
@@ -397,7 +386,7 @@ func TestP43Damage(t *testing.T) {
 					continue
 				}
 				for _, behind := range []string{"", "Lg", good} {
-					if f, n, e := frame.Parse(join(damaged, []byte(behind))); e != api.ErrSum || n != 0 || !nothing(f) {
+					if f, n, e := frame.Parse(sample.Join(damaged, []byte(behind))); e != api.ErrSum || n != 0 || !nothing(f) {
 						t.Fatalf("%d bytes, the bits %x from %d on: %d, error %d", size, pattern, at, n, e)
 					}
 				}
@@ -413,8 +402,8 @@ func TestR1AnyBytes(t *testing.T) {
 		same(t, []byte{'L', 'g', 1, 3, byte(n), byte(n >> 8)})
 	}
 	for seed := range uint32(2000) {
-		same(t, mixed(int(seed%50), seed))
-		same(t, join([]byte("Lg\x02\x03\x05\x00"), mixed(int(seed%12), seed)))
+		same(t, sample.Mixed(int(seed%50), seed))
+		same(t, sample.Join([]byte("Lg\x02\x03\x05\x00"), sample.Mixed(int(seed%12), seed)))
 	}
 }
 

@@ -15,10 +15,11 @@ import (
 )
 
 // layers are named one by one: beside them there may lie tests that are not the program's.
-// (A package of the program that is no layer is to be added.)
+// (Package sample is none, but holds to the same rules; another one is to be added.)
 var layers = []string{
 	"api", "prim", "bitmap", "crc", "frame", "scan", "value", "cell", "rel", "catalog", "row", "chunk", "image", "event",
 	"fit", "record", "encode", "order", "decode", "spell", "wire", "session", "table", "total", "filter", "bench",
+	"sample",
 }
 
 // library are the packages that may be imported, beside the program's own.

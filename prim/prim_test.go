@@ -9,14 +9,13 @@ import (
 
 	"lacuna/api"
 	"lacuna/prim"
+	"lacuna/sample"
 )
 
 const all = math.MaxUint64 // the greatest most
 
 // times is k bytes, each of them v.
 func times(k int, v byte) []byte { return bytes.Repeat([]byte{v}, k) }
-
-func join(parts ...[]byte) []byte { return bytes.Join(parts, nil) }
 
 func TestP11PutUint(t *testing.T) {
 	for _, x := range []struct {
@@ -30,14 +29,14 @@ func TestP11PutUint(t *testing.T) {
 		{300, []byte{172, 2}},
 		{16383, []byte{255, 127}},
 		{16384, []byte{128, 128, 1}},
-		{1<<63 - 1, join(times(8, 255), []byte{127})},
-		{1 << 63, join(times(9, 128), []byte{1})},
-		{math.MaxUint64, join(times(9, 255), []byte{1})},
+		{1<<63 - 1, sample.Join(times(8, 255), []byte{127})},
+		{1 << 63, sample.Join(times(9, 128), []byte{1})},
+		{math.MaxUint64, sample.Join(times(9, 255), []byte{1})},
 	} {
 		if b := prim.PutUint(nil, x.v); !bytes.Equal(b, x.b) {
 			t.Errorf("%d: %v, not %v", x.v, b, x.b)
 		}
-		if b := prim.PutUint([]byte{7, 8}, x.v); !bytes.Equal(b, join([]byte{7, 8}, x.b)) {
+		if b := prim.PutUint([]byte{7, 8}, x.v); !bytes.Equal(b, sample.Join([]byte{7, 8}, x.b)) {
 			t.Errorf("%d behind 7 8: %v", x.v, b)
 		}
 	}
@@ -55,13 +54,13 @@ func TestP11PutInt(t *testing.T) {
 		{63, []byte{126}},
 		{-64, []byte{127}},
 		{64, []byte{128, 1}},
-		{math.MaxInt64, join([]byte{254}, times(8, 255), []byte{1})},
-		{math.MinInt64, join(times(9, 255), []byte{1})},
+		{math.MaxInt64, sample.Join([]byte{254}, times(8, 255), []byte{1})},
+		{math.MinInt64, sample.Join(times(9, 255), []byte{1})},
 	} {
 		if b := prim.PutInt(nil, x.v); !bytes.Equal(b, x.b) {
 			t.Errorf("%d: %v, not %v", x.v, b, x.b)
 		}
-		if b := prim.PutInt([]byte{7, 8}, x.v); !bytes.Equal(b, join([]byte{7, 8}, x.b)) {
+		if b := prim.PutInt([]byte{7, 8}, x.v); !bytes.Equal(b, sample.Join([]byte{7, 8}, x.b)) {
 			t.Errorf("%d behind 7 8: %v", x.v, b)
 		}
 	}
@@ -79,11 +78,11 @@ func TestP11PutText(t *testing.T) {
 		{strings.Repeat("x", 128), []byte{128, 1}},
 		{strings.Repeat("x", 300), []byte{172, 2}},
 	} {
-		want := join(x.head, []byte(x.s))
+		want := sample.Join(x.head, []byte(x.s))
 		if b := prim.PutText(nil, x.s); !bytes.Equal(b, want) {
 			t.Errorf("%q: %v", x.s, b)
 		}
-		if b := prim.PutText([]byte{7, 8}, x.s); !bytes.Equal(b, join([]byte{7, 8}, want)) {
+		if b := prim.PutText([]byte{7, 8}, x.s); !bytes.Equal(b, sample.Join([]byte{7, 8}, want)) {
 			t.Errorf("%q behind 7 8: %v", x.s, b)
 		}
 	}
@@ -147,16 +146,16 @@ func TestP12Uint(t *testing.T) {
 		{"one seven, no last one", []byte{128}, all, 0, 0, api.ErrShort},
 		{"nine sevens, no last one", times(9, 255), all, 0, 0, api.ErrShort},
 		{"nine noughts, no last one", times(9, 128), all, 0, 0, api.ErrShort},
-		{"the greatest", join(times(9, 255), []byte{1}), all, all, 0, api.OK},
-		{"the greatest, and more", join(times(9, 255), []byte{1, 77}), all, all, 1, api.OK},
-		{"the greatest of one less", join(times(9, 255), []byte{1}), all - 1, 0, 0, api.ErrRange},
-		{"2^63", join(times(9, 128), []byte{1}), all, 1 << 63, 0, api.OK},
-		{"tenth 0", join(times(9, 255), []byte{0}), all, 0, 0, api.ErrOver},
-		{"tenth 2", join(times(9, 128), []byte{2}), all, 0, 0, api.ErrOver},
-		{"tenth 127", join(times(9, 255), []byte{127}), all, 0, 0, api.ErrOver},
+		{"the greatest", sample.Join(times(9, 255), []byte{1}), all, all, 0, api.OK},
+		{"the greatest, and more", sample.Join(times(9, 255), []byte{1, 77}), all, all, 1, api.OK},
+		{"the greatest of one less", sample.Join(times(9, 255), []byte{1}), all - 1, 0, 0, api.ErrRange},
+		{"2^63", sample.Join(times(9, 128), []byte{1}), all, 1 << 63, 0, api.OK},
+		{"tenth 0", sample.Join(times(9, 255), []byte{0}), all, 0, 0, api.ErrOver},
+		{"tenth 2", sample.Join(times(9, 128), []byte{2}), all, 0, 0, api.ErrOver},
+		{"tenth 127", sample.Join(times(9, 255), []byte{127}), all, 0, 0, api.ErrOver},
 		{"tenth 128, and then the end", times(10, 128), all, 0, 0, api.ErrOver},
-		{"tenth 129, and then 0", join(times(10, 129), []byte{0}), all, 0, 0, api.ErrOver},
-		{"eleven", join(times(10, 255), []byte{1}), all, 0, 0, api.ErrOver},
+		{"tenth 129, and then 0", sample.Join(times(10, 129), []byte{0}), all, 0, 0, api.ErrOver},
+		{"eleven", sample.Join(times(10, 255), []byte{1}), all, 0, 0, api.ErrOver},
 		{"0 in two", []byte{128, 0}, all, 0, 0, api.ErrOver},
 		{"1 in two", []byte{129, 0}, all, 0, 0, api.ErrOver},
 		{"0 in three", []byte{128, 128, 0, 3}, all, 0, 0, api.ErrOver},
@@ -198,7 +197,7 @@ func heads(yield func([]byte) bool) {
 		for _, seven := range []byte{128, 129, 200, 255} {
 			for _, last := range []byte{0, 1, 2, 3, 63, 64, 126, 127, 128, 129, 254, 255} {
 				for _, more := range []string{"", "\x00", "\x01", "\x80", "\x05\x00"} {
-					b := join(times(k, seven), []byte{last}, []byte(more))
+					b := sample.Join(times(k, seven), []byte{last}, []byte(more))
 					if !yield(b) || !yield(b[:k]) {
 						return
 					}
@@ -236,12 +235,12 @@ func TestP12Int(t *testing.T) {
 		{[]byte{2, 2}, 1, 1, api.OK},
 		{[]byte{127}, -64, 0, api.OK},
 		{[]byte{128, 1}, 64, 0, api.OK},
-		{join([]byte{254}, times(8, 255), []byte{1}), math.MaxInt64, 0, api.OK},
-		{join(times(9, 255), []byte{1}), math.MinInt64, 0, api.OK},
+		{sample.Join([]byte{254}, times(8, 255), []byte{1}), math.MaxInt64, 0, api.OK},
+		{sample.Join(times(9, 255), []byte{1}), math.MinInt64, 0, api.OK},
 		{nil, 0, 0, api.ErrShort},
 		{[]byte{129}, 0, 0, api.ErrShort},
 		{[]byte{129, 0}, 0, 0, api.ErrOver},
-		{join(times(9, 255), []byte{2}), 0, 0, api.ErrOver},
+		{sample.Join(times(9, 255), []byte{2}), 0, 0, api.ErrOver},
 		{times(10, 255), 0, 0, api.ErrOver},
 	} {
 		r := prim.Read(x.b)

@@ -12,20 +12,9 @@ import (
 	"lacuna/api"
 	"lacuna/prim"
 	"lacuna/rel"
+	"lacuna/sample"
 	"lacuna/value"
 )
-
-// mixed are n bytes that show no order; others for another seed.
-func mixed(n int, seed uint32) []byte {
-	b := make([]byte, n)
-	for k := range b {
-		seed = seed*1664525 + 1013904223
-		b[k] = byte(seed >> 24)
-	}
-	return b
-}
-
-func join(parts ...[]byte) []byte { return bytes.Join(parts, nil) }
 
 // equal: is it one relation, field by field?
 func equal(r, o rel.Rel) bool {
@@ -332,7 +321,7 @@ func TestP81Keys(t *testing.T) {
 		for seed := range uint32(20) {
 			r := rel.Rel{Columns: ints(n)}
 			var want []pair
-			for k, b := range mixed(n, seed) {
+			for k, b := range sample.Mixed(n, seed) {
 				// All of them, none, and some.
 				if r.Columns[k].Key = seed == 0 || seed > 1 && b < 128; r.Columns[k].Key {
 					want = append(want, pair{k, r.Columns[k]})
@@ -373,13 +362,13 @@ func encodeByWords(r rel.Rel) ([]byte, api.Errno) {
 // formed are the bytes of a relation, right or wrong.
 func formed(r rel.Rel) []byte {
 	b := prim.PutUint(nil, uint64(r.Oid))
-	b = join(b, prim.PutUint(nil, uint64(r.Version)), []byte{byte(len(r.Name))}, []byte(r.Name), []byte{r.Identity, byte(len(r.Columns))})
+	b = sample.Join(b, prim.PutUint(nil, uint64(r.Version)), []byte{byte(len(r.Name))}, []byte(r.Name), []byte{r.Identity, byte(len(r.Columns))})
 	for _, c := range r.Columns {
 		form := c.Type
 		if c.Key {
 			form += 128
 		}
-		b = join(b, []byte{byte(len(c.Name))}, []byte(c.Name), []byte{form})
+		b = sample.Join(b, []byte{byte(len(c.Name))}, []byte(c.Name), []byte{form})
 	}
 	return b
 }
@@ -583,7 +572,7 @@ func TestP83FromNoOtherBytes(t *testing.T) {
 
 func TestR1AnyBytes(t *testing.T) {
 	for seed := range uint32(3000) {
-		b := mixed(int(seed%70), seed)
+		b := sample.Mixed(int(seed%70), seed)
 		decoded(t, b)
 		for k := range b {
 			b[k] %= 32

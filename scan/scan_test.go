@@ -8,25 +8,14 @@ import (
 	"lacuna/api"
 	"lacuna/crc"
 	"lacuna/frame"
+	"lacuna/sample"
 	"lacuna/scan"
 )
-
-// mixed are n bytes that show no order; others for another seed.
-func mixed(n int, seed uint32) []byte {
-	b := make([]byte, n)
-	for k := range b {
-		seed = seed*1664525 + 1013904223
-		b[k] = byte(seed >> 24)
-	}
-	return b
-}
-
-func join(parts ...[]byte) []byte { return bytes.Join(parts, nil) }
 
 // made are the bytes of a frame with n bytes of payload.
 func made(t *testing.T, version, kind uint8, n int) []byte {
 	t.Helper()
-	b, e := frame.Make(frame.Frame{Version: version, Kind: kind, Payload: mixed(n, uint32(n))})
+	b, e := frame.Make(frame.Frame{Version: version, Kind: kind, Payload: sample.Mixed(n, uint32(n))})
 	if e != api.OK {
 		t.Fatalf("version %d, kind %d, %d bytes: error %d", version, kind, n, e)
 	}
@@ -121,7 +110,7 @@ func pieces(b []byte, n int) [][]byte {
 func uneven(b []byte, most int, seed uint32) [][]byte {
 	var l [][]byte
 	for k := 0; len(b) > 0; k++ {
-		m := mixed(2, seed+uint32(k)*7919)
+		m := sample.Mixed(2, seed+uint32(k)*7919)
 		n := min((int(m[0])|int(m[1])<<8)%(most+1), len(b))
 		l = append(l, b[:n])
 		b = b[n:]
@@ -148,22 +137,22 @@ func TestP51New(t *testing.T) {
 
 func TestP51Feed(t *testing.T) {
 	s := scan.New()
-	b := join(made(t, 1, frame.Begin, 0), made(t, 2, frame.Insert, 300), made(t, 1, frame.Commit, 1), made(t, 1, frame.Begin, 5)[:9])
+	b := sample.Join(made(t, 1, frame.Begin, 0), made(t, 2, frame.Insert, 300), made(t, 1, frame.Commit, 1), made(t, 1, frame.Begin, 5)[:9])
 	l, e := s.Feed(b)
 	if e != api.OK || len(l) != 3 || s.At() != 331 || s.Kept() != 9 || s.Err() != api.OK {
 		t.Fatalf("three frames and a beginning: %d frames, error %d, at %d, %d kept", len(l), e, s.At(), s.Kept())
 	}
 	for k, want := range []scan.Found{
 		{Frame: frame.Frame{Version: 1, Kind: frame.Begin}, At: 0, Size: 10},
-		{Frame: frame.Frame{Version: 2, Kind: frame.Insert, Payload: mixed(300, 300)}, At: 10, Size: 310},
-		{Frame: frame.Frame{Version: 1, Kind: frame.Commit, Payload: mixed(1, 1)}, At: 320, Size: 11},
+		{Frame: frame.Frame{Version: 2, Kind: frame.Insert, Payload: sample.Mixed(300, 300)}, At: 10, Size: 310},
+		{Frame: frame.Frame{Version: 1, Kind: frame.Commit, Payload: sample.Mixed(1, 1)}, At: 320, Size: 11},
 	} {
 		if !equal(l[k], want) {
 			t.Errorf("frame %d: %v", k, l[k])
 		}
 	}
 	l, e = s.Feed(made(t, 1, frame.Begin, 5)[9:])
-	if e != api.OK || len(l) != 1 || l[0].At != 331 || l[0].Size != 15 || !bytes.Equal(l[0].Payload, mixed(5, 5)) {
+	if e != api.OK || len(l) != 1 || l[0].At != 331 || l[0].Size != 15 || !bytes.Equal(l[0].Payload, sample.Mixed(5, 5)) {
 		t.Errorf("the rest of the fourth: %v, error %d", l, e)
 	}
 	if s.At() != 346 || s.Kept() != 0 {
@@ -179,7 +168,7 @@ func TestP51Feed(t *testing.T) {
 }
 
 func TestP51Parts(t *testing.T) {
-	b := join(made(t, 1, 1, 0), made(t, 1, 4, 20), made(t, 2, 5, 1), made(t, 1, 8, 0))
+	b := sample.Join(made(t, 1, 1, 0), made(t, 1, 4, 20), made(t, 2, 5, 1), made(t, 1, 8, 0))
 	for _, end := range []int{0, 1, 9, 10, 11, 39, 40, 41, 50, 51, 52, 60, 61} {
 		fed(t, singles(b[:end])...)
 	}
@@ -225,12 +214,12 @@ func TestP51Wrong(t *testing.T) {
 	right := [][]byte{made(t, 1, 1, 0), made(t, 2, 4, 100), made(t, 1, 8, 1)}
 	for _, x := range wrongs {
 		for ahead := range len(right) + 1 {
-			front := join(right[:ahead]...)
+			front := sample.Join(right[:ahead]...)
 			wrong := []byte(x.b)
-			behind := join(right[ahead:]...)
+			behind := sample.Join(right[ahead:]...)
 
 			s := scan.New()
-			l, e := s.Feed(join(front, wrong, behind))
+			l, e := s.Feed(sample.Join(front, wrong, behind))
 			if e != x.e || len(l) != ahead {
 				t.Errorf("%s, behind %d: %d frames, error %d, not %d", x.name, ahead, len(l), e, x.e)
 			}
@@ -241,7 +230,7 @@ func TestP51Wrong(t *testing.T) {
 			// The last byte, and no other one, is what tells it.
 			s = scan.New()
 			last := len(wrong) - 1
-			l, e = s.Feed(join(front, wrong[:last]))
+			l, e = s.Feed(sample.Join(front, wrong[:last]))
 			if e != api.OK || len(l) != ahead || s.Kept() != last || s.Err() != api.OK {
 				t.Errorf("%s, without its last byte: %d frames, error %d, %d kept", x.name, len(l), e, s.Kept())
 			}
@@ -250,9 +239,9 @@ func TestP51Wrong(t *testing.T) {
 				t.Errorf("%s, its last byte: %d frames, error %d, %d kept, at %d", x.name, len(l), e, s.Kept(), s.At())
 			}
 
-			fed(t, singles(join(front, wrong, behind))...)
-			fed(t, pieces(join(front, wrong, behind), 7)...)
-			fed(t, join(front, wrong), behind)
+			fed(t, singles(sample.Join(front, wrong, behind))...)
+			fed(t, pieces(sample.Join(front, wrong, behind), 7)...)
+			fed(t, sample.Join(front, wrong), behind)
 		}
 	}
 }
@@ -280,11 +269,11 @@ func TestP51Stopped(t *testing.T) {
 	one := made(t, 1, 1, 3)
 	for _, x := range wrongs {
 		s := scan.New()
-		l, e := s.Feed(join(one, []byte(x.b)))
+		l, e := s.Feed(sample.Join(one, []byte(x.b)))
 		if len(l) != 1 || e != x.e {
 			t.Fatalf("%s: %d frames, error %d", x.name, len(l), e)
 		}
-		for _, part := range [][]byte{nil, {}, one, {'L'}, []byte("Lg"), []byte(x.b), []byte("xx"), join(one, one), mixed(5000, 1)} {
+		for _, part := range [][]byte{nil, {}, one, {'L'}, []byte("Lg"), []byte(x.b), []byte("xx"), sample.Join(one, one), sample.Mixed(5000, 1)} {
 			l, e := s.Feed(part)
 			if len(l) != 0 || e != x.e {
 				t.Errorf("%s, fed on: %d frames, error %d", x.name, len(l), e)
@@ -306,8 +295,8 @@ func TestP52Lacking(t *testing.T) {
 	if l, e := s.Feed(nil); len(l) != 0 || e != api.OK || s.Kept() != 4105 {
 		t.Fatalf("a byte is lacking still: %d frames, error %d, %d kept", len(l), e, s.Kept())
 	}
-	l, e = s.Feed(join(b[4105:], b[:4105]))
-	if len(l) != 1 || e != api.OK || l[0].At != 0 || l[0].Size != 4106 || !bytes.Equal(l[0].Payload, mixed(4096, 4096)) {
+	l, e = s.Feed(sample.Join(b[4105:], b[:4105]))
+	if len(l) != 1 || e != api.OK || l[0].At != 0 || l[0].Size != 4106 || !bytes.Equal(l[0].Payload, sample.Mixed(4096, 4096)) {
 		t.Fatalf("the last byte, and another one that lacks one: %d frames, error %d", len(l), e)
 	}
 	if s.At() != 4106 || s.Kept() != 4105 {
@@ -339,9 +328,9 @@ func logs(t *testing.T) [][]byte {
 		all,
 		all[:len(all)-1],
 		damaged,
-		join(all, []byte("Lg\x01\x01\x01\x10"), all),
-		join(all, []byte("L"), all),
-		join(all, all),
+		sample.Join(all, []byte("Lg\x01\x01\x01\x10"), all),
+		sample.Join(all, []byte("L"), all),
+		sample.Join(all, all),
 	}
 }
 
@@ -365,7 +354,7 @@ func TestP53Parts(t *testing.T) {
 
 func TestP53AllParts(t *testing.T) {
 	// Each way to part two frames, of 10 and 11 bytes, into parts of at least 3: many, but few enough.
-	b := join(made(t, 2, 1, 0), made(t, 1, 8, 1))
+	b := sample.Join(made(t, 2, 1, 0), made(t, 1, 8, 1))
 	damaged := bytes.Clone(b)
 	damaged[16] ^= 128
 	var all func(b []byte, parts [][]byte)
@@ -393,7 +382,7 @@ func heap() uint64 {
 
 func TestP53Keeps(t *testing.T) {
 	one := made(t, 1, 4, 4000)
-	part := join(bytes.Repeat(one, 100), one[:4009])
+	part := sample.Join(bytes.Repeat(one, 100), one[:4009])
 	scanners := make([]*scan.Scanner, 100)
 	ahead := heap()
 	for k := range scanners {
@@ -415,16 +404,16 @@ func TestR1AnyBytes(t *testing.T) {
 		b := []byte{byte(n), byte(n >> 8)}
 		fed(t, b)
 		if n%16 == 0 {
-			fed(t, join(one, b), one)
+			fed(t, sample.Join(one, b), one)
 			fed(t, []byte("Lg"), b, one)
-			fed(t, []byte("Lg\x01"), []byte{3}, b, mixed(300, 1))
+			fed(t, []byte("Lg\x01"), []byte{3}, b, sample.Mixed(300, 1))
 		}
 	}
 	for seed := range uint32(2000) {
-		b := mixed(int(seed%60), seed)
+		b := sample.Mixed(int(seed%60), seed)
 		fed(t, uneven(b, 5, seed)...)
-		fed(t, uneven(join(one, b, one), 9, seed)...)
-		fed(t, uneven(join([]byte("Lg\x02\x03\x05\x00"), b), 9, seed)...)
+		fed(t, uneven(sample.Join(one, b, one), 9, seed)...)
+		fed(t, uneven(sample.Join([]byte("Lg\x02\x03\x05\x00"), b), 9, seed)...)
 	}
 }
 
@@ -432,17 +421,17 @@ func TestR2FramesBesideAnError(t *testing.T) {
 	// Each frame ahead of what is wrong is told just once, in the part in which its last byte comes.
 	one := made(t, 1, 2, 2)
 	s := scan.New()
-	if l, e := s.Feed(join(one, one[:5])); len(l) != 1 || e != api.OK {
+	if l, e := s.Feed(sample.Join(one, one[:5])); len(l) != 1 || e != api.OK {
 		t.Errorf("%d frames, error %d", len(l), e)
 	}
-	l, e := s.Feed(join(one[5:], one, []byte("Lg\x09"), one))
+	l, e := s.Feed(sample.Join(one[5:], one, []byte("Lg\x09"), one))
 	if len(l) != 2 || e != api.ErrVersion || l[0].At != 12 || l[1].At != 24 || s.At() != 36 {
 		t.Errorf("%v, error %d, at %d", l, e, s.At())
 	}
 }
 
 func TestR3NilAndEmpty(t *testing.T) {
-	b := join(made(t, 1, 1, 0), []byte("Lg\x01\x08"))
+	b := sample.Join(made(t, 1, 1, 0), []byte("Lg\x01\x08"))
 	fed(t, nil)
 	fed(t, []byte{})
 	fed(t, nil, b, nil, []byte{}, []byte("x"), nil)
@@ -450,7 +439,7 @@ func TestR3NilAndEmpty(t *testing.T) {
 
 func TestR4Parts(t *testing.T) {
 	one := made(t, 1, 4, 50)
-	room := join(one, one, bytes.Repeat([]byte{9}, 6000))
+	room := sample.Join(one, one, bytes.Repeat([]byte{9}, 6000))
 	kept := bytes.Clone(room)
 	s := scan.New()
 	l, e := s.Feed(room[:80])
@@ -459,12 +448,12 @@ func TestR4Parts(t *testing.T) {
 	}
 	// What is kept is the scanner's own: the part may be used for something else.
 	clear(room)
-	if !bytes.Equal(l[0].Payload, mixed(50, 50)) {
+	if !bytes.Equal(l[0].Payload, sample.Mixed(50, 50)) {
 		t.Error("a frame shares memory with the part")
 	}
 	copy(room, one[20:])
 	m, e := s.Feed(room[:40])
-	if len(m) != 1 || e != api.OK || !bytes.Equal(m[0].Payload, mixed(50, 50)) {
+	if len(m) != 1 || e != api.OK || !bytes.Equal(m[0].Payload, sample.Mixed(50, 50)) {
 		t.Fatalf("%d frames, error %d: what is kept shares memory with the part", len(m), e)
 	}
 }
@@ -472,17 +461,17 @@ func TestR4Parts(t *testing.T) {
 func TestR4Answers(t *testing.T) {
 	one := made(t, 1, 4, 50)
 	s := scan.New()
-	l, _ := s.Feed(join(one, one, one[:30]))
+	l, _ := s.Feed(sample.Join(one, one, one[:30]))
 	for k := range l {
 		clear(l[k].Payload)
-		_ = append(l[k].Payload, mixed(100, 3)...)
+		_ = append(l[k].Payload, sample.Mixed(100, 3)...)
 	}
-	m, e := s.Feed(join(one[30:], one[:10]))
-	if len(m) != 1 || e != api.OK || !bytes.Equal(m[0].Payload, mixed(50, 50)) {
+	m, e := s.Feed(sample.Join(one[30:], one[:10]))
+	if len(m) != 1 || e != api.OK || !bytes.Equal(m[0].Payload, sample.Mixed(50, 50)) {
 		t.Fatalf("%d frames, error %d: a frame shares memory with what is kept", len(m), e)
 	}
 	want := bytes.Clone(m[0].Payload)
-	s.Feed(join(one[10:], bytes.Repeat([]byte("L"), 300)))
+	s.Feed(sample.Join(one[10:], bytes.Repeat([]byte("L"), 300)))
 	if !bytes.Equal(m[0].Payload, want) {
 		t.Error("a frame is changed by what comes behind it")
 	}
@@ -507,11 +496,11 @@ func TestR6TwoScanners(t *testing.T) {
 	wrong := scan.New()
 	wrong.Feed([]byte("xx"))
 	l, e := r.Feed(one[40:])
-	if len(l) != 1 || e != api.OK || l[0].Kind != 4 || !bytes.Equal(l[0].Payload, mixed(50, 50)) {
+	if len(l) != 1 || e != api.OK || l[0].Kind != 4 || !bytes.Equal(l[0].Payload, sample.Mixed(50, 50)) {
 		t.Errorf("the first: %v, error %d", l, e)
 	}
 	l, e = s.Feed(two[30:])
-	if len(l) != 1 || e != api.OK || l[0].Kind != 5 || !bytes.Equal(l[0].Payload, mixed(30, 30)) {
+	if len(l) != 1 || e != api.OK || l[0].Kind != 5 || !bytes.Equal(l[0].Payload, sample.Mixed(30, 30)) {
 		t.Errorf("the second: %v, error %d", l, e)
 	}
 }

@@ -9,27 +9,9 @@ import (
 
 	"lacuna/api"
 	"lacuna/prim"
+	"lacuna/sample"
 	"lacuna/value"
 )
-
-// mixed are n bytes that show no order; others for another seed.
-func mixed(n int, seed uint32) []byte {
-	b := make([]byte, n)
-	for k := range b {
-		seed = seed*1664525 + 1013904223
-		b[k] = byte(seed >> 24)
-	}
-	return b
-}
-
-func join(parts ...[]byte) []byte { return bytes.Join(parts, nil) }
-
-// equal: is it one value, field by field, and bit by bit?
-func equal(v, w value.Value) bool {
-	bits := math.Float64bits
-	return v.Type == w.Type && v.Int == w.Int && v.Text == w.Text &&
-		bits(real(v.Num)) == bits(real(w.Num)) && bits(imag(v.Num)) == bits(imag(w.Num))
-}
 
 // number is the complex of those bits.
 func number(re, im uint64) complex128 {
@@ -51,7 +33,7 @@ var ints = []int64{
 var texts = []string{
 	"", "a", " ", "~", "\x1f", "\x7f", "\x00", "\x80", "\xff", "a\x1f", "\x7fa", "a\nb", "é", "a b~", strings.Repeat("x", 127), strings.Repeat("x", 128),
 	strings.Repeat("x", 2047), strings.Repeat("~", 2048), strings.Repeat(" ", 2049), strings.Repeat("x", 2047) + "\x1f",
-	strings.Repeat("x", 2048) + "\x7f", string(mixed(2048, 5)), string(mixed(2049, 5)),
+	strings.Repeat("x", 2048) + "\x7f", string(sample.Mixed(2048, 5)), string(sample.Mixed(2049, 5)),
 }
 
 var types = []uint8{0, value.Bool, value.Int, value.Float, value.Complex, value.Text, value.Bytes, 7, 8, 128, 255}
@@ -157,8 +139,8 @@ func TestP61Right(t *testing.T) {
 		{"2049 bytes", value.Value{Type: 5, Text: long}, api.ErrLong},
 		{"no bytes", value.Value{Type: 6}, api.OK},
 		{"any bytes", value.Value{Type: 6, Text: "\x00\x1f\x7f\x80\xff"}, api.OK},
-		{"bytes, 2048", value.Value{Type: 6, Text: string(mixed(2048, 1))}, api.OK},
-		{"bytes, 2049", value.Value{Type: 6, Text: string(mixed(2049, 1))}, api.ErrLong},
+		{"bytes, 2048", value.Value{Type: 6, Text: string(sample.Mixed(2048, 1))}, api.OK},
+		{"bytes, 2049", value.Value{Type: 6, Text: string(sample.Mixed(2049, 1))}, api.ErrLong},
 
 		{"a bool, and a number", value.Value{Type: 1, Num: 1}, api.ErrForm},
 		{"a bool, and -0", value.Value{Type: 1, Num: negative}, api.ErrForm},
@@ -241,7 +223,7 @@ func TestP61Same(t *testing.T) {
 	l := several()
 	for k, a := range l {
 		for _, b := range l[k%7 : min(len(l), k%7+300)] {
-			if value.Same(a, b) != equal(a, b) {
+			if value.Same(a, b) != sample.Equal(a, b) {
 				t.Fatalf("%v and %v", a, b)
 			}
 		}
@@ -299,19 +281,19 @@ var formed = []struct {
 	{"-0 and -0 i", value.Value{Type: 4, Num: number(1<<63, 1<<63)}, []byte{0, 0, 0, 0, 0, 0, 0, 128, 0, 0, 0, 0, 0, 0, 0, 128}, []byte{3, 128, 1, 128, 1}},
 	{"no text", value.Value{Type: 5}, []byte{0}, []byte{0}},
 	{"ab", value.Value{Type: 5, Text: "ab"}, []byte{2, 97, 98}, []byte{2, 97, 98}},
-	{"a text of 128", value.Value{Type: 5, Text: strings.Repeat("~", 128)}, join([]byte{128, 1}, bytes.Repeat([]byte{126}, 128)), join([]byte{128, 1}, bytes.Repeat([]byte{126}, 128))},
-	{"a text of 2048", value.Value{Type: 5, Text: strings.Repeat(" ", 2048)}, join([]byte{128, 16}, bytes.Repeat([]byte{32}, 2048)), join([]byte{128, 16}, bytes.Repeat([]byte{32}, 2048))},
+	{"a text of 128", value.Value{Type: 5, Text: strings.Repeat("~", 128)}, sample.Join([]byte{128, 1}, bytes.Repeat([]byte{126}, 128)), sample.Join([]byte{128, 1}, bytes.Repeat([]byte{126}, 128))},
+	{"a text of 2048", value.Value{Type: 5, Text: strings.Repeat(" ", 2048)}, sample.Join([]byte{128, 16}, bytes.Repeat([]byte{32}, 2048)), sample.Join([]byte{128, 16}, bytes.Repeat([]byte{32}, 2048))},
 	{"no bytes", value.Value{Type: 6}, []byte{0}, []byte{0}},
 	{"bytes", value.Value{Type: 6, Text: "\x00\x7f\xff"}, []byte{3, 0, 127, 255}, []byte{3, 0, 127, 255}},
-	{"bytes, 2047", value.Value{Type: 6, Text: string(mixed(2047, 2))}, join([]byte{255, 15}, mixed(2047, 2)), join([]byte{255, 15}, mixed(2047, 2))},
+	{"bytes, 2047", value.Value{Type: 6, Text: string(sample.Mixed(2047, 2))}, sample.Join([]byte{255, 15}, sample.Mixed(2047, 2)), sample.Join([]byte{255, 15}, sample.Mixed(2047, 2))},
 }
 
 func TestP62Put(t *testing.T) {
 	for _, x := range formed {
 		for version, want := range map[uint8][]byte{1: x.one, 2: x.two} {
-			for _, ahead := range [][]byte{nil, {}, {9}, mixed(50, 3)} {
+			for _, ahead := range [][]byte{nil, {}, {9}, sample.Mixed(50, 3)} {
 				b, e := value.Put(ahead, x.v, version)
-				if e != api.OK || !bytes.Equal(b, join(ahead, want)) {
+				if e != api.OK || !bytes.Equal(b, sample.Join(ahead, want)) {
 					t.Errorf("%s in version %d behind %d bytes: %v, error %d", x.name, version, len(ahead), b, e)
 				}
 			}
@@ -418,10 +400,10 @@ func TestP62PutWrong(t *testing.T) {
 func TestP62Take(t *testing.T) {
 	for _, x := range formed {
 		for version, b := range map[uint8][]byte{1: x.one, 2: x.two} {
-			for _, behind := range [][]byte{nil, {0}, mixed(50, 4)} {
-				r := prim.Read(join(b, behind))
+			for _, behind := range [][]byte{nil, {0}, sample.Mixed(50, 4)} {
+				r := prim.Read(sample.Join(b, behind))
 				v := value.Take(r, x.v.Type, version)
-				if !equal(v, x.v) || r.Err() != api.OK || r.Left() != len(behind) {
+				if !sample.Equal(v, x.v) || r.Err() != api.OK || r.Left() != len(behind) {
 					t.Errorf("%s in version %d ahead of %d bytes: %v, error %d, %d left", x.name, version, len(behind), v, r.Err(), r.Left())
 				}
 			}
@@ -429,7 +411,7 @@ func TestP62Take(t *testing.T) {
 			for n := range b {
 				r := prim.Read(b[:n])
 				v := value.Take(r, x.v.Type, version)
-				if !equal(v, value.Value{}) || r.Err() != api.ErrShort || r.Left() != 0 {
+				if !sample.Equal(v, value.Value{}) || r.Err() != api.ErrShort || r.Left() != 0 {
 					t.Fatalf("%s in version %d, the first %d bytes: %v, error %d", x.name, version, n, v, r.Err())
 				}
 			}
@@ -460,11 +442,11 @@ func TestP62TakeWrong(t *testing.T) {
 		{"a bool of 255", []byte{255, 0}, 1, 2, api.ErrRange},
 		{"an int of 7 bytes", make([]byte, 7), 2, 1, api.ErrShort},
 		{"an int longer than it is", []byte{128, 0}, 2, 2, api.ErrOver},
-		{"an int too great", join(tens[:9], []byte{2}), 2, 2, api.ErrOver},
+		{"an int too great", sample.Join(tens[:9], []byte{2}), 2, 2, api.ErrOver},
 		{"an int without end", tens, 2, 2, api.ErrOver},
 		{"a float of 7 bytes", make([]byte, 7), 3, 1, api.ErrShort},
 		{"a float longer than it is", []byte{192, 0}, 3, 2, api.ErrOver},
-		{"a float too great", join(tens[:9], []byte{2}), 3, 2, api.ErrOver},
+		{"a float too great", sample.Join(tens[:9], []byte{2}), 3, 2, api.ErrOver},
 		{"a complex of 15 bytes", make([]byte, 15), 4, 1, api.ErrShort},
 		{"a first byte of 4", []byte{4}, 4, 2, api.ErrRange},
 		{"a first byte of 4, and parts", []byte{4, 64, 64}, 4, 2, api.ErrRange},
@@ -485,24 +467,24 @@ func TestP62TakeWrong(t *testing.T) {
 		{"a text that ends, with another byte", []byte{3, 0, 0}, 5, 2, api.ErrShort},
 		{"a length that ends", []byte{128}, 5, 2, api.ErrShort},
 		{"a length longer than it is", []byte{129, 0, 97}, 5, 2, api.ErrOver},
-		{"a text of 2049", join([]byte{129, 16}, bytes.Repeat([]byte{97}, 2049)), 5, 2, api.ErrRange},
+		{"a text of 2049", sample.Join([]byte{129, 16}, bytes.Repeat([]byte{97}, 2049)), 5, 2, api.ErrRange},
 		{"a text of 2049, and no bytes", []byte{129, 16}, 5, 1, api.ErrRange},
-		{"a text of 2049, with another byte", join([]byte{129, 16}, make([]byte, 2049)), 5, 2, api.ErrRange},
-		{"the greatest length there could be", join(bytes.Repeat([]byte{255}, 9), []byte{1}), 5, 2, api.ErrRange},
+		{"a text of 2049, with another byte", sample.Join([]byte{129, 16}, make([]byte, 2049)), 5, 2, api.ErrRange},
+		{"the greatest length there could be", sample.Join(bytes.Repeat([]byte{255}, 9), []byte{1}), 5, 2, api.ErrRange},
 		{"the byte 31", []byte{2, 97, 31}, 5, 1, api.ErrForm},
 		{"the byte 127", []byte{2, 127, 97}, 5, 2, api.ErrForm},
 		{"the byte 128", []byte{1, 128}, 5, 2, api.ErrForm},
-		{"the byte 31 at the end of 2048", join([]byte{128, 16}, bytes.Repeat([]byte{97}, 2047), []byte{31}), 5, 2, api.ErrForm},
+		{"the byte 31 at the end of 2048", sample.Join([]byte{128, 16}, bytes.Repeat([]byte{97}, 2047), []byte{31}), 5, 2, api.ErrForm},
 		{"bytes that end", []byte{1}, 6, 1, api.ErrShort},
-		{"bytes, 2049", join([]byte{129, 16}, mixed(2049, 1)), 6, 2, api.ErrRange},
-		{"bytes, 2049, version 1", join([]byte{129, 16}, mixed(2049, 1)), 6, 1, api.ErrRange},
+		{"bytes, 2049", sample.Join([]byte{129, 16}, sample.Mixed(2049, 1)), 6, 2, api.ErrRange},
+		{"bytes, 2049, version 1", sample.Join([]byte{129, 16}, sample.Mixed(2049, 1)), 6, 1, api.ErrRange},
 	} {
 		r := prim.Read(x.b)
 		v := value.Take(r, x.kind, x.version)
-		if !equal(v, value.Value{}) || r.Err() != x.e || r.Left() != 0 {
+		if !sample.Equal(v, value.Value{}) || r.Err() != x.e || r.Left() != 0 {
 			t.Errorf("%s: %v, error %d, not %d, %d left", x.name, v, r.Err(), x.e, r.Left())
 		}
-		if again := value.Take(r, 1, 1); !equal(again, value.Value{}) || r.Err() != x.e {
+		if again := value.Take(r, 1, 1); !sample.Equal(again, value.Value{}) || r.Err() != x.e {
 			t.Errorf("%s, taken on: %v, error %d", x.name, again, r.Err())
 		}
 	}
@@ -514,7 +496,7 @@ func TestP62GivenUp(t *testing.T) {
 			for _, version := range []uint8{0, 1, 2, 3} {
 				r := prim.Read(make([]byte, 40))
 				r.Fail(e)
-				if v := value.Take(r, kind, version); !equal(v, value.Value{}) || r.Err() != e || r.Left() != 0 {
+				if v := value.Take(r, kind, version); !sample.Equal(v, value.Value{}) || r.Err() != e || r.Left() != 0 {
 					t.Errorf("given up with %d, type %d, version %d: %v, error %d", e, kind, version, v, r.Err())
 				}
 			}
@@ -604,7 +586,7 @@ func taken(t *testing.T, b []byte, kind, version uint8) {
 	want, size, wantE := takeByWords(b, kind, version)
 	r := prim.Read(b)
 	v := value.Take(r, kind, version)
-	if !equal(v, want) || r.Err() != wantE {
+	if !sample.Equal(v, want) || r.Err() != wantE {
 		t.Fatalf("%v as %d in version %d: %v, error %d, not %v, %d", b, kind, version, v, r.Err(), want, wantE)
 	}
 	if wantE != api.OK {
@@ -626,12 +608,12 @@ func TestP63FromNoOtherBytes(t *testing.T) {
 				taken(t, []byte{byte(n), byte(n >> 8)}, kind, version)
 				if n < 256 {
 					taken(t, []byte{byte(n)}, kind, version)
-					taken(t, join([]byte{byte(n)}, mixed(20, uint32(n))), kind, version)
+					taken(t, sample.Join([]byte{byte(n)}, sample.Mixed(20, uint32(n))), kind, version)
 				}
 			}
 			for seed := range uint32(3000) {
-				taken(t, mixed(int(seed%24), seed), kind, version)
-				taken(t, join([]byte{byte(seed % 5)}, mixed(int(seed%24), seed)), kind, version)
+				taken(t, sample.Mixed(int(seed%24), seed), kind, version)
+				taken(t, sample.Join([]byte{byte(seed % 5)}, sample.Mixed(int(seed%24), seed)), kind, version)
 			}
 		}
 	}
@@ -664,7 +646,7 @@ func TestP63PutAndTaken(t *testing.T) {
 				t.Fatalf("%v: error %d", v, e)
 			}
 			r := prim.Read(one)
-			if w := value.Take(r, v.Type, version); !equal(v, w) || !value.Same(v, w) || r.End() != api.OK {
+			if w := value.Take(r, v.Type, version); !sample.Equal(v, w) || !value.Same(v, w) || r.End() != api.OK {
 				t.Fatalf("%v in version %d: %v, error %d", v, version, w, r.End())
 			}
 			// Some of them one behind the other.
@@ -674,7 +656,7 @@ func TestP63PutAndTaken(t *testing.T) {
 		}
 		r := prim.Read(b)
 		for k := 0; k < len(l); k += 10 {
-			if w := value.Take(r, l[k].Type, version); !equal(l[k], w) {
+			if w := value.Take(r, l[k].Type, version); !sample.Equal(l[k], w) {
 				t.Fatalf("%v in version %d, behind others: %v", l[k], version, w)
 			}
 		}
@@ -688,7 +670,7 @@ func TestP63Lengths(t *testing.T) {
 	for _, n := range []int{0, 1, 127, 128, 129, 2047, 2048} {
 		for _, v := range []value.Value{
 			{Type: value.Text, Text: strings.Repeat("~", n)},
-			{Type: value.Bytes, Text: string(mixed(n, uint32(n)))},
+			{Type: value.Bytes, Text: string(sample.Mixed(n, uint32(n)))},
 		} {
 			for version := uint8(1); version <= 2; version++ {
 				b, e := value.Put(nil, v, version)
@@ -696,7 +678,7 @@ func TestP63Lengths(t *testing.T) {
 					t.Errorf("%d bytes of type %d in version %d: error %d", n, v.Type, version, e)
 				}
 				r := prim.Read(b)
-				if w := value.Take(r, v.Type, version); !equal(v, w) || r.End() != api.OK {
+				if w := value.Take(r, v.Type, version); !sample.Equal(v, w) || r.End() != api.OK {
 					t.Errorf("%d bytes of type %d in version %d: taken with error %d", n, v.Type, version, r.End())
 				}
 			}
@@ -734,7 +716,7 @@ func TestR6TakeAgain(t *testing.T) {
 		r := prim.Read(b)
 		other := prim.Read([]byte{4})
 		value.Take(other, 4, 2)
-		if v := value.Take(r, 4, 2); !equal(v, value.Value{Type: 4, Num: 1 + 2i}) || r.End() != api.OK {
+		if v := value.Take(r, 4, 2); !sample.Equal(v, value.Value{Type: 4, Num: 1 + 2i}) || r.End() != api.OK {
 			t.Errorf("%v, error %d", v, r.End())
 		}
 	}
