@@ -14,9 +14,6 @@ import (
 	"lacuna/value"
 )
 
-// equal: is it one cell, field by field, and bit by bit?
-func equal(c, d cell.Cell) bool { return c.Kind == d.Kind && sample.Equal(c.Value, d.Value) }
-
 func text(n int) value.Value { return value.Value{Type: value.Text, Text: strings.Repeat("x", n)} }
 
 func raw(n int) value.Value {
@@ -119,7 +116,7 @@ func TestKinds(t *testing.T) {
 
 func TestP71Of(t *testing.T) {
 	for _, v := range values() {
-		if c := cell.Of(v); !equal(c, cell.Cell{Kind: 2, Value: v}) {
+		if c := cell.Of(v); !sample.EqualCell(c, cell.Cell{Kind: 2, Value: v}) {
 			t.Errorf("%v: %v", v, c)
 		}
 	}
@@ -219,7 +216,7 @@ func TestP71Alike(t *testing.T) {
 	l := several()
 	for _, a := range l {
 		for _, b := range l {
-			if alike := cell.Alike(a, b); alike != equal(a, b) {
+			if alike := cell.Alike(a, b); alike != sample.EqualCell(a, b) {
 				t.Fatalf("%v and %v: %v", a, b, alike)
 			}
 		}
@@ -394,7 +391,7 @@ func TestP72Take(t *testing.T) {
 		{"2048 bytes in version 2", []byte{1, 128, 16}, value.Text, 2, cell.Of(text(0)), 2048},
 	} {
 		r := prim.Read(sample.Join(x.b, []byte{9, 9}))
-		if c, n := cell.Take(r, x.kind, x.version); !equal(c, x.c) || n != x.n || r.Err() != api.OK || r.Left() != 2 {
+		if c, n := cell.Take(r, x.kind, x.version); !sample.EqualCell(c, x.c) || n != x.n || r.Err() != api.OK || r.Left() != 2 {
 			t.Errorf("%s: %v, %d, error %d, %d bytes left", x.name, c, n, r.Err(), r.Left())
 		}
 	}
@@ -486,7 +483,7 @@ func TestP72TakeWrong(t *testing.T) {
 	} {
 		r := prim.Read([]byte(x.b))
 		c, n := cell.Take(r, x.kind, x.version)
-		if !equal(c, cell.Cell{}) || n != 0 || r.Err() != x.e || r.Left() != 0 {
+		if !sample.EqualCell(c, cell.Cell{}) || n != 0 || r.Err() != x.e || r.Left() != 0 {
 			t.Errorf("%s: %v, %d, error %d, not %d", x.name, c, n, r.Err(), x.e)
 		}
 	}
@@ -498,7 +495,7 @@ func TestP72GivenUp(t *testing.T) {
 			for _, b := range [][]byte{nil, {0}, {1, 1}, {2, 65}, {4, 97, 98}} {
 				r := prim.Read(b)
 				r.Fail(api.ErrSum)
-				if c, n := cell.Take(r, kind, version); !equal(c, cell.Cell{}) || n != 0 || r.Err() != api.ErrSum {
+				if c, n := cell.Take(r, kind, version); !sample.EqualCell(c, cell.Cell{}) || n != 0 || r.Err() != api.ErrSum {
 					t.Errorf("type %d, version %d: %v, %d, error %d", kind, version, c, n, r.Err())
 				}
 			}
@@ -596,7 +593,7 @@ func taken(t *testing.T, b []byte, kind, version uint8) {
 	r := prim.Read(b)
 	c, n := cell.Take(r, kind, version)
 	want, length, size, e := takeByWords(b, kind, version)
-	if !equal(c, want) || n != length || r.Err() != e {
+	if !sample.EqualCell(c, want) || n != length || r.Err() != e {
 		t.Fatalf("%v of type %d, version %d: %v, %d, error %d, not %v, %d, %d", b, kind, version, c, n, r.Err(), want, length, e)
 	}
 	if e != api.OK {
@@ -686,7 +683,7 @@ func TestP73PutAndTaken(t *testing.T) {
 			if cell.Large(x.c) {
 				want.Value.Text, length = "", len(x.c.Value.Text)
 			}
-			if c, n := cell.Take(r, x.kind, version); !equal(c, want) || n != length {
+			if c, n := cell.Take(r, x.kind, version); !sample.EqualCell(c, want) || n != length {
 				t.Fatalf("%v of type %d in version %d: %v, %d", x.c, x.kind, version, c, n)
 			}
 		}
@@ -726,7 +723,7 @@ func TestR6TakeAgain(t *testing.T) {
 		other := prim.Read([]byte{3})
 		cell.Take(other, value.Int, 1)
 		c, n := cell.Take(r, value.Text, 2)
-		if !equal(c, cell.Of(value.Value{Type: value.Text, Text: "ab"})) || n != 0 || r.End() != api.OK {
+		if !sample.EqualCell(c, cell.Of(value.Value{Type: value.Text, Text: "ab"})) || n != 0 || r.End() != api.OK {
 			t.Errorf("%v, %d, error %d", c, n, r.End())
 		}
 	}

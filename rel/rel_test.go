@@ -16,11 +16,6 @@ import (
 	"lacuna/value"
 )
 
-// equal: is it one relation, field by field?
-func equal(r, o rel.Rel) bool {
-	return r.Oid == o.Oid && r.Version == o.Version && r.Name == o.Name && r.Identity == o.Identity && slices.Equal(r.Columns, o.Columns)
-}
-
 // made is a relation of the oid 5, the version 1 and the name "t".
 func made(identity uint8, columns ...rel.Column) rel.Rel {
 	return rel.Rel{Ref: rel.Ref{Oid: 5, Version: 1}, Name: "t", Identity: identity, Columns: columns}
@@ -291,7 +286,7 @@ func TestP81Same(t *testing.T) {
 	l := several()
 	for k := 0; k < len(l); k += 7 {
 		for j := range l {
-			if l[k].Same(l[j]) != equal(l[k], l[j]) {
+			if l[k].Same(l[j]) != sample.EqualRel(l[k], l[j]) {
 				t.Fatalf("%v and %v", l[k], l[j])
 			}
 		}
@@ -453,7 +448,7 @@ func decoded(t *testing.T, b []byte) {
 	t.Helper()
 	r, e := rel.Decode(b)
 	want, err := decodeByWords(b)
-	if e != err || !equal(r, want) || e != api.OK && r.Columns != nil {
+	if e != err || !sample.EqualRel(r, want) || e != api.OK && r.Columns != nil {
 		t.Fatalf("%v: %v, error %d, not %v, %d", b, r, e, want, err)
 	}
 	if e != api.OK {
@@ -526,7 +521,7 @@ func TestP82DecodeWrong(t *testing.T) {
 		{"the version ahead of the name", "\x05\x81\x00\x20", api.ErrOver},
 	} {
 		r, e := rel.Decode([]byte(x.b))
-		if e != x.e || e != api.OK && (!equal(r, rel.Rel{}) || r.Columns != nil) {
+		if e != x.e || e != api.OK && (!sample.EqualRel(r, rel.Rel{}) || r.Columns != nil) {
 			t.Errorf("%s: %v, error %d, not %d", x.name, r, e, x.e)
 		}
 		decoded(t, []byte(x.b))
@@ -541,7 +536,7 @@ func TestP83EncodedAndDecoded(t *testing.T) {
 			continue
 		}
 		n++
-		if o, e := rel.Decode(b); e != api.OK || !equal(o, r) || !o.Same(r) {
+		if o, e := rel.Decode(b); e != api.OK || !sample.EqualRel(o, r) || !o.Same(r) {
 			t.Fatalf("%v: %v, error %d", r, o, e)
 		}
 	}
@@ -632,7 +627,7 @@ func TestR4NothingIsChanged(t *testing.T) {
 		r.Same(kept)
 		r.Encode()
 		walked(r.Keys(), 100)
-		if !equal(r, kept) || room[len(room)-1].Name != "room" {
+		if !sample.EqualRel(r, kept) || room[len(room)-1].Name != "room" {
 			t.Fatalf("%v, not %v", r, kept)
 		}
 	}
@@ -655,7 +650,7 @@ func TestExample(t *testing.T) {
 	if b, e := r.Encode(); e != api.OK || !bytes.Equal(b, want) {
 		t.Errorf("%v, error %d", b, e)
 	}
-	if o, e := rel.Decode(want); e != api.OK || !equal(o, r) {
+	if o, e := rel.Decode(want); e != api.OK || !sample.EqualRel(o, r) {
 		t.Errorf("%v, error %d", o, e)
 	}
 }

@@ -4,7 +4,10 @@ package sample
 import (
 	"bytes"
 	"math"
+	"slices"
 
+	"lacuna/cell"
+	"lacuna/rel"
 	"lacuna/value"
 )
 
@@ -26,4 +29,12 @@ func Equal(v, w value.Value) bool {
 	bits := math.Float64bits
 	return v.Type == w.Type && v.Int == w.Int && v.Text == w.Text &&
 		bits(real(v.Num)) == bits(real(w.Num)) && bits(imag(v.Num)) == bits(imag(w.Num))
+}
+
+// EqualCell: is it one cell, likewise?
+func EqualCell(c, d cell.Cell) bool { return c.Kind == d.Kind && Equal(c.Value, d.Value) }
+
+// EqualRel: is it one relation, field by field?
+func EqualRel(r, o rel.Rel) bool {
+	return r.Oid == o.Oid && r.Version == o.Version && r.Name == o.Name && r.Identity == o.Identity && slices.Equal(r.Columns, o.Columns)
 }
