@@ -32,33 +32,12 @@ var kinds = []uint8{0, frame.Begin, frame.Relation, frame.Piece, frame.Insert, f
 // olds are the kinds of old images, and others.
 var olds = []uint8{image.None, image.Key, image.Full, 3, 4, 128, 255}
 
-// texts is a relation of n texts, with a key of these columns.
-func texts(n int, identity uint8, key ...int) rel.Rel {
-	return sample.Keyed(sample.Rel(slices.Repeat([]uint8{value.Text}, n)...), identity, key...)
-}
-
-// of is a row of texts; "-" stands for null, "=" for same.
-func of(l ...string) row.Row {
-	var w row.Row
-	for _, s := range l {
-		switch s {
-		case "-":
-			w = append(w, null)
-		case "=":
-			w = append(w, same)
-		default:
-			w = append(w, sample.Text(s))
-		}
-	}
-	return w
-}
-
-// put is w with another cell at a place.
-func put(w row.Row, at int, c cell.Cell) row.Row {
-	w = slices.Clone(w)
-	w[at] = c
-	return w
-}
+// Short names of what is made most often.
+var (
+	texts = sample.Texts
+	of    = sample.Cells
+	put   = sample.Put
+)
 
 // oidless is r with an oid that can't be.
 func oidless(r rel.Rel) rel.Rel {

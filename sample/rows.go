@@ -68,6 +68,41 @@ func Keyed(r rel.Rel, identity uint8, key ...int) rel.Rel {
 	return r
 }
 
+// At is a relation like r, with another ref.
+func At(r rel.Rel, oid, version uint32) rel.Rel {
+	r.Ref = rel.Ref{Oid: oid, Version: version}
+	r.Columns = slices.Clone(r.Columns)
+	return r
+}
+
+// Texts is a relation of n texts, with a key of these columns.
+func Texts(n int, identity uint8, key ...int) rel.Rel {
+	return Keyed(Rel(slices.Repeat([]uint8{value.Text}, n)...), identity, key...)
+}
+
+// Cells is a row of texts; "-" stands for null, "=" for same.
+func Cells(l ...string) row.Row {
+	var w row.Row
+	for _, s := range l {
+		switch s {
+		case "-":
+			w = append(w, cell.Cell{})
+		case "=":
+			w = append(w, cell.Cell{Kind: cell.Same})
+		default:
+			w = append(w, Text(s))
+		}
+	}
+	return w
+}
+
+// Put is w with another cell at a place.
+func Put(w row.Row, at int, c cell.Cell) row.Row {
+	w = slices.Clone(w)
+	w[at] = c
+	return w
+}
+
 // RightCells may stand in a column of a type; the last one of them is null.
 func RightCells(kind uint8) []cell.Cell {
 	var l []cell.Cell
