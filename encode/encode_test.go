@@ -18,7 +18,6 @@ import (
 	"lacuna/rel"
 	"lacuna/row"
 	"lacuna/sample"
-	"lacuna/scan"
 )
 
 // Short names of what is made most often.
@@ -30,33 +29,16 @@ var (
 	gone     = sample.Delete
 	truncate = sample.Truncate
 	tx       = sample.Tx
+	rels     = sample.Few
+	into     = sample.Into
+	emptied  = sample.Emptied
+	framed   = sample.Framed
 
 	fine = fit.Fault{Tx: -1, Event: -1, Err: api.OK}
 )
 
 // fault is one at a place.
 func fault(at, event int, e api.Errno) fit.Fault { return fit.Fault{Tx: at, Event: event, Err: e} }
-
-// rels are n relations of a text, of the oids from 1 on.
-func rels(n uint32) []rel.Rel {
-	var l []rel.Rel
-	for oid := range n {
-		l = append(l, sample.At(sample.Texts(1, rel.Nothing), 1+oid, 1))
-	}
-	return l
-}
-
-// into is an insert into one of these.
-func into(oid uint32, text string) event.Event { return insert(ref(oid, 1), of(text)) }
-
-// emptied is a truncate of some of these.
-func emptied(oids ...uint32) event.Event {
-	var l []rel.Ref
-	for _, oid := range oids {
-		l = append(l, ref(oid, 1))
-	}
-	return truncate(0, l...)
-}
 
 // encoder makes one.
 func encoder(t *testing.T, c *catalog.Catalog, version uint8) *encode.Encoder {
@@ -66,15 +48,6 @@ func encoder(t *testing.T, c *catalog.Catalog, version uint8) *encode.Encoder {
 		t.Fatalf("no encoder: error %d", e)
 	}
 	return x
-}
-
-// framed is a frame's bytes.
-func framed(version, kind uint8, payload []byte) []byte {
-	b, e := frame.Make(frame.Frame{Version: version, Kind: kind, Payload: payload})
-	if e != api.OK {
-		return nil
-	}
-	return b
 }
 
 // txByWords are a transaction's frames, and what is known then, if some refs are known ahead of it.
@@ -123,14 +96,9 @@ func encodeByWords(c *catalog.Catalog, version uint8, l []event.Tx) ([]byte, fit
 // frames are those of a log.
 func frames(t *testing.T, b []byte) []frame.Frame {
 	t.Helper()
-	s := scan.New()
-	found, e := s.Feed(b)
-	if e != api.OK || s.Kept() != 0 {
-		t.Fatalf("no log: error %d at %d, %d bytes left", e, s.At(), s.Kept())
-	}
-	var l []frame.Frame
-	for _, f := range found {
-		l = append(l, f.Frame)
+	l, whole := sample.Frames(b)
+	if !whole {
+		t.Fatalf("no log: %v", b)
 	}
 	return l
 }

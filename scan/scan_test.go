@@ -96,28 +96,6 @@ func singles(b []byte) [][]byte {
 	return l
 }
 
-// pieces are parts of n bytes; the last one may have fewer.
-func pieces(b []byte, n int) [][]byte {
-	var l [][]byte
-	for len(b) > n {
-		l = append(l, b[:n])
-		b = b[n:]
-	}
-	return append(l, b)
-}
-
-// uneven are parts of lengths that show no order, of at most so many bytes, some of none.
-func uneven(b []byte, most int, seed uint32) [][]byte {
-	var l [][]byte
-	for k := 0; len(b) > 0; k++ {
-		m := sample.Mixed(2, seed+uint32(k)*7919)
-		n := min((int(m[0])|int(m[1])<<8)%(most+1), len(b))
-		l = append(l, b[:n])
-		b = b[n:]
-	}
-	return l
-}
-
 func TestP51New(t *testing.T) {
 	s := scan.New()
 	if s.At() != 0 || s.Kept() != 0 || s.Err() != api.OK {
@@ -181,7 +159,7 @@ func TestP51Parts(t *testing.T) {
 		t.Errorf("%d frames, at %d", len(s.found), s.at)
 	}
 	for n := 1; n <= len(b); n++ {
-		fed(t, pieces(b, n)...)
+		fed(t, sample.Parts(b, n)...)
 	}
 	for n := range len(b) + 1 {
 		fed(t, b[:n], b[n:])
@@ -240,7 +218,7 @@ func TestP51Wrong(t *testing.T) {
 			}
 
 			fed(t, singles(sample.Join(front, wrong, behind))...)
-			fed(t, pieces(sample.Join(front, wrong, behind), 7)...)
+			fed(t, sample.Parts(sample.Join(front, wrong, behind), 7)...)
 			fed(t, sample.Join(front, wrong), behind)
 		}
 	}
@@ -338,13 +316,13 @@ func TestP53Parts(t *testing.T) {
 	for k, b := range logs(t) {
 		want := byWords(b, state{})
 		for _, n := range []int{1, 2, 3, 9, 10, 11, 100, 4095, 4096, 4105, 4106, 4107, 8192, len(b)} {
-			if s := fed(t, pieces(b, n)...); len(s.found) != len(want.found) || s.err != want.err || s.at != want.at {
+			if s := fed(t, sample.Parts(b, n)...); len(s.found) != len(want.found) || s.err != want.err || s.at != want.at {
 				t.Errorf("log %d in parts of %d: %d frames, error %d", k, n, len(s.found), s.err)
 			}
 		}
 		for seed := range uint32(20) {
 			for _, most := range []int{3, 40, 5000, 20000} {
-				if s := fed(t, uneven(b, most, seed)...); len(s.found) != len(want.found) || s.err != want.err {
+				if s := fed(t, sample.Uneven(b, most, seed)...); len(s.found) != len(want.found) || s.err != want.err {
 					t.Errorf("log %d in uneven parts of up to %d: %d frames, error %d", k, most, len(s.found), s.err)
 				}
 			}
@@ -411,9 +389,9 @@ func TestR1AnyBytes(t *testing.T) {
 	}
 	for seed := range uint32(2000) {
 		b := sample.Mixed(int(seed%60), seed)
-		fed(t, uneven(b, 5, seed)...)
-		fed(t, uneven(sample.Join(one, b, one), 9, seed)...)
-		fed(t, uneven(sample.Join([]byte("Lg\x02\x03\x05\x00"), b), 9, seed)...)
+		fed(t, sample.Uneven(b, 5, seed)...)
+		fed(t, sample.Uneven(sample.Join(one, b, one), 9, seed)...)
+		fed(t, sample.Uneven(sample.Join([]byte("Lg\x02\x03\x05\x00"), b), 9, seed)...)
 	}
 }
 
